@@ -1,0 +1,1 @@
+"""Chainhouse: one row of deeds, kept by several houses."""
