@@ -114,7 +114,7 @@ def statement_faults(node, at_top):
         yield node.lineno, "L6", "else behind a loop"
     if isinstance(node, ast.Try) and (node.finalbody or not node.handlers):
         yield node.lineno, "L6", "finally"
-    if isinstance(node, ast.Assign) and len(node.targets) != 1:
+    if isinstance(node, ast.Assign) and (len(node.targets) != 1 or isinstance(node.targets[0], (ast.Tuple, ast.List))):
         yield node.lineno, "L6", "several targets"
     if isinstance(node, ast.ImportFrom):
         whole = node.module and re.fullmatch(PACKAGE + r"\.[a-z][a-z0-9_]*", node.module)
@@ -243,6 +243,17 @@ def walk_faults(tree):
                 yield node.lineno, "L24", "a set kept"
 
 
+def local_faults(tree):
+    """L15: parameters and locals that are called like a class or an import of their file."""
+    imports = [alias.asname or alias.name for node in tree.body if isinstance(node, ast.ImportFrom) for alias in node.names]
+    taken = set(imports) | {node.name for node in tree.body if isinstance(node, ast.ClassDef)}
+    for node in ast.walk(tree):
+        name = node.arg if isinstance(node, ast.arg) else getattr(node, "id", None)
+        stored = isinstance(node, ast.arg) or isinstance(getattr(node, "ctx", None), ast.Store)
+        if stored and name in taken:
+            yield node.lineno, "L15", name
+
+
 def methods_of(tree):
     classes = [node for node in tree.body if isinstance(node, ast.ClassDef)]
     return {part.name for node in classes for part in node.body if isinstance(part, ast.FunctionDef)}
@@ -253,6 +264,7 @@ def faults(text, owned=frozenset()):
     tree = ast.parse(text)
     owned = set(owned) | methods_of(tree)
     found = list(text_faults(text)) + list(top_faults(tree)) + list(walk_faults(tree))
+    found += local_faults(tree)
     for node in ast.walk(tree):
         if isinstance(node, ast.stmt):
             found += statement_faults(node, node in tree.body)

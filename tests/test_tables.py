@@ -2,8 +2,8 @@ import itertools
 import unittest
 
 from chainhouse.tables import Table
+from things import SIXTY
 
-SIXTY = 10 ** 60 - 1
 HELD = (("a", 1), ("aa", 0), ("ab", -5), ("b", SIXTY))
 ASKED = (("ann", 3, None), ("bob", SIXTY, -7), ("bobby", 1, 0))
 

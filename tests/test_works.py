@@ -1,29 +1,7 @@
 import unittest
 
 from chainhouse.works import is_ask, is_name, is_whole, is_work
-from things import NO_NAMES, NO_WHOLES, deep
-
-SIXTY = 10 ** 60 - 1
-WORKS = (
-    ("put", "a", 1), ("put", "a", 0), ("put", "a", -1), ("put", "abcdefgh", SIXTY), ("put", "z", -SIXTY),
-    ("add", "a", 1), ("add", "a", 0), ("add", "a", -1), ("add", "abcdefgh", SIXTY), ("add", "z", -SIXTY),
-    ("drop", "a"), ("drop", "abcdefgh"), ("drop", "put"), ("put", "drop", 1), ("add", "add", 1),
-)
-NO_WORKS = (
-    (), ("put",), ("add",), ("drop",), ("put", "a"), ("add", "a"), ("drop", "a", 1), ("drop", "a", None),
-    ("put", "a", 1, 1), ("add", "a", 1, 2), ("put", "a", 1, None), ("drop", "a", "b"), ("a", 1), ("a",),
-    ("Put", "a", 1), ("put ", "a", 1), ("pu", "a", 1), ("puts", "a", 1), ("", "a", 1), ("take", "a", 1),
-    ("take", "a"), (None, "a", 1), (True, "a", 1), (0, "a", 1), (("put",), "a", 1), (["put"], "a", 1),
-    (deep(100000), "a", 1), (deep(100000), "a"), ("DROP", "a"), ("dro", "a"),
-    ("put", 1, "a"), ("put", "a", "1"), ("put", "a", None), ("add", "a", None), ("put", "a", ""),
-    ("put", "a", (1,)), ("put", "a", [1]), ("add", "a", (1,)),
-    ("put", "a", True), ("put", "a", False), ("add", "a", True), ("add", "a", False),
-    ("put", "a", SIXTY + 1), ("put", "a", -SIXTY - 1), ("add", "a", SIXTY + 1), ("add", "a", -SIXTY - 1),
-    ("put", "a", 10 ** 100), ("add", "a", -10 ** 5000),
-    ["put", "a", 1], ["add", "a", 1], ["drop", "a"], (("put", "a", 1),), [("put", "a", 1)],
-    ("put", ("a", 1)), ("put", ["a", 1]),
-    "put", "put a 1", "drop", "da", "", None, True, False, 0, 1, [], deep(50), deep(100000),
-)
+from things import NO_NAMES, NO_WHOLES, NO_WORKS, SIXTY, WORKS
 
 
 class Wholes(unittest.TestCase):
