@@ -10,6 +10,13 @@ class Note:
         self.lacking = 0
         self.answered = 0
 
+    def twin(self):
+        other = Note(self.next_place)
+        other.held = self.held
+        other.lacking = self.lacking
+        other.answered = self.answered
+        return other
+
 
 class Members:
     def __init__(self, own):
@@ -69,6 +76,12 @@ class Members:
         for name in self.names():
             note = self.notes[name]
             note.lacking = 0
+
+    def twin(self):
+        other = Members(self.own)
+        for name, note in self.notes.items():
+            other.notes[name] = note.twin()
+        return other
 
     def told(self):
         notes = [(name, self.notes[name]) for name in self.names()]

@@ -45,6 +45,9 @@ class Row:
     def behind(self, place):
         return self.entries[place - self.stand[0]:]
 
+    def between(self, before, place):
+        return self.entries[before - self.stand[0]:place - self.stand[0]]
+
     def bench_at(self, place):
         for entry in reversed(self.up_to(place)):
             if entry[1][0] == "bench":
@@ -53,6 +56,13 @@ class Row:
 
     def bench(self):
         return self.bench_at(self.last_place())
+
+    def bench_place(self):
+        for place in range(self.last_place(), self.stand[0], -1):
+            if self.entry_at(place)[1][0] == "bench":
+                return place
+        # The stand's bench came at its place at the latest.
+        return self.stand[0]
 
     def is_behind(self, place, term):
         own_term = self.last_term()

@@ -41,3 +41,7 @@ def is_work(thing):
 def is_ask(asker, number, work):
     # Sixty figures bound the numbers of works alone: an ask's number has no end.
     return is_name(asker) and is_whole_from(number, 1) and is_work(work)
+
+
+def is_read(asker, number, key):
+    return is_name(asker) and is_whole_from(number, 1) and is_name(key)

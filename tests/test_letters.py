@@ -1,5 +1,3 @@
-import unittest
-
 from chainhouse.errors import NoLetter
 from chainhouse.letters import check_letter
 from things import ENTRIES, GREAT, NO_ENTRIES, NO_NAMES, NO_WHOLES, SIXTY, Refusing, deep, deep_tuple

@@ -238,3 +238,20 @@ class Benches(unittest.TestCase):
         self.assertEqual(self.notes.told(), (("e", 3, 0, 0, 4),))
         self.notes.took("e", True, 12, 5)
         self.assertEqual(self.notes.told(), (("e", 13, 12, 0, 5),))
+
+
+class Twins(unittest.TestCase):
+    def test_a_twin_stands_as_it_does_and_is_apart(self):
+        notes = noted()
+        notes.took("a", True, 9, 1)
+        notes.got("d", 4, 7, 3, 4)
+        before = notes.told()
+        twin = notes.twin()
+        self.assertEqual((twin.told(), twin.holders(9), twin.own), (before, ("a", "b"), "b"))
+        twin.took("a", True, 12, 5)
+        twin.got("d", 4, 1, 9, 4)
+        twin.note_bench((("b", "z"), (), ()), 12)
+        self.assertEqual(notes.told(), before)
+        other = notes.twin()
+        notes.took("c", False, 3, 4)
+        self.assertEqual(other.told(), before)

@@ -168,6 +168,25 @@ class BenchesOfPlaces(unittest.TestCase):
         self.assertEqual(row.bench(), AB)
 
 
+class BenchPlaces(unittest.TestCase):
+    def test_where_the_row_s_bench_came(self):
+        stand = (5, 2, BENCHES[0], (), ())
+        first, bench = (3, ("first",)), (3, ("bench", BENCHES[1]))
+        for entries, place in (
+            ((), 5), ((first,), 5), ((bench,), 6), ((first, bench), 7), ((bench, first), 6), ((bench, first, bench, first), 8),
+        ):
+            self.assertEqual(Row(stand, entries).bench_place(), place)
+
+
+class Between(unittest.TestCase):
+    def test_entries_beyond_one_place_up_to_another(self):
+        entries = tuple((3, ("ask", "ann", number, ("drop", "k"))) for number in range(1, 5))
+        row = Row((5, 2, BENCHES[0], (), ()), entries)
+        for before in range(5, 10):
+            for place in range(before, 10):
+                self.assertEqual(row.between(before, place), entries[before - 5:place - 5])
+
+
 class Behind(unittest.TestCase):
     def test_same_term(self):
         for row in (Row(LATER, ()), Row((3, 1, A, (), ()), asks("ann", (1, 2)))):

@@ -1,6 +1,6 @@
 import unittest
 
-from chainhouse.works import is_ask, is_name, is_whole, is_work
+from chainhouse.works import is_ask, is_name, is_read, is_whole, is_work
 from things import NO_NAMES, NO_WHOLES, NO_WORKS, SIXTY, WORKS
 
 
@@ -101,3 +101,16 @@ class Asks(unittest.TestCase):
     def test_all_parts_wrong(self):
         self.assertIs(is_ask(None, None, None), False)
         self.assertIs(is_ask([], True, []), False)
+
+
+class Reads(unittest.TestCase):
+    def test_reads(self):
+        for number in (1, 2, SIXTY, 10 ** 5000):
+            self.assertIs(is_read("a", number, "abcdefgh"), True)
+
+    def test_what_is_none(self):
+        for thing in NO_NAMES:
+            self.assertIs(is_read(thing, 1, "k"), False)
+            self.assertIs(is_read("a", 1, thing), False)
+        for thing in NO_WHOLES + (0, -1, -10 ** 5000):
+            self.assertIs(is_read("a", thing, "k"), False)
