@@ -59,3 +59,9 @@ def behind(bench):
     if not is_joined(bench):
         raise NotYet("nothing is behind a plain bench before it is changed")
     return (bench[1], (), bench[2])
+
+
+def is_step(bench, other):
+    if is_joined(bench):
+        return other == behind(bench)
+    return is_joined(other) and other[0] == bench[0]

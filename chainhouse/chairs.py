@@ -73,9 +73,11 @@ def sent_and_settled(mind):
 def place_to_settle(mind):
     row = mind.row()
     bench = row.bench()
-    for place in range(row.last_place(), mind.settled(), -1):
+    # Who holds a place changes only behind one that is just somebody's held: no other may be the greatest.
+    for place in reversed(sorted(set(mind.seat.noted.held_places() + [row.last_place()]))):
         # Held by more than half, an entry of an earlier term might still be cut by a later chair.
-        if row.term_at(place) == mind.kept.term and is_half(bench, mind.seat.noted.holders(place)):
+        is_own = place > mind.settled() and row.term_at(place) == mind.kept.term
+        if is_own and is_half(bench, mind.seat.noted.holders(place)):
             return place
     return None
 

@@ -36,6 +36,9 @@ class House:
 
     def hear(self, letter):
         check_letter(letter)
+        return self.heard(letter)
+
+    def heard(self, letter):
         if letter[0] == "look":
             return look_heard(self.mind, letter)
         if letter[3] > self.mind.kept.term:

@@ -47,6 +47,9 @@ class Members:
         # The chair itself is not noted: it holds its whole row, and needs no letter to answer itself.
         return tuple(sorted(names + [self.own]))
 
+    def held_places(self):
+        return [note.held for note in self.notes.values()]
+
     def holders(self, place):
         return self.with_own([name for name in self.notes if self.notes[name].held >= place])
 

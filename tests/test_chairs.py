@@ -256,6 +256,17 @@ class Settles(unittest.TestCase):
         house.hear(took("c", True, 13))
         self.assertEqual((house.settled(), house.table().holds("k")), (13, 11))
 
+    def test_up_to_the_greatest_of_several_at_once(self):
+        # Who learns holds a lesser place ahead: more than half hold both places by one and the same letter.
+        for first in (2, 3, 4):
+            house = chair(at_first((("a", "b", "c"), (), ("d", "e"))))
+            for number in (1, 2, 3):
+                house.ask("ann", number, ("add", "k", 1))
+            house.hear(took("d", True, first, 0, 1))
+            house.hear(took("e", True, 1, 0, 1))
+            house.hear(took("b", True, 3, 0, 1))
+            self.assertEqual((house.settled(), house.table().holds("k")), (3, 2))
+
     def test_papers_of_it(self):
         house = chair()
         house.taken_papers()
